@@ -1,0 +1,1 @@
+"""Fifteenforms: forms that give all numbers, told by a few of them."""

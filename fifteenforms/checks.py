@@ -1,0 +1,40 @@
+"""Checks of arguments that several files need. They ask for the very kinds of values: True is no integer here."""
+
+from fifteenforms.errors import InvalidNumber, InvalidNumbers, InvalidPoint
+from fifteenforms.limits import MOST_NUMBER
+
+
+def is_row(value, many):
+    """Whether it is a tuple of so many integers."""
+    if type(value) is not tuple or len(value) != many:
+        return False
+    return all([type(entry) is int for entry in value])
+
+
+def is_number(value):
+    """Whether it is a number up to the greatest that the package takes."""
+    return type(value) is int and 1 <= value <= MOST_NUMBER
+
+
+def check_number(number):
+    """Raises InvalidNumber unless it is a number up to the greatest."""
+    if not is_number(number):
+        raise InvalidNumber(number)
+
+
+def check_numbers(numbers):
+    """Raises InvalidNumbers unless it is a tuple of numbers up to the greatest."""
+    if type(numbers) is not tuple:
+        raise InvalidNumbers(None)
+    for index, number in enumerate(numbers):
+        if not is_number(number):
+            raise InvalidNumbers(index)
+
+
+def check_point(point, places):
+    """Raises InvalidPoint unless it is a tuple of so many integers, of any size."""
+    if type(point) is not tuple or len(point) != places:
+        raise InvalidPoint(None)
+    for index, place in enumerate(point):
+        if type(place) is not int:
+            raise InvalidPoint(index)

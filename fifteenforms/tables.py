@@ -1,0 +1,43 @@
+"""Sums and determinants of square tables of integers, given as rows."""
+
+
+def pairing(table, one, two):
+    """The sum of all entries, that of row i at j taken as often as place i of `one` and place j of `two` tell."""
+    total = 0
+    for row, often in zip(table, one):
+        total += often * sum([entry * place for entry, place in zip(row, two)])
+    return total
+
+
+def determinant_of(rows):
+    """The determinant: each entry of the first row by what is left without its row and its place."""
+    if len(rows) == 0:
+        return 1
+    total = 0
+    sign = 1
+    for at, entry in enumerate(rows[0]):
+        if entry != 0:
+            left = [row[:at] + row[at + 1:] for row in rows[1:]]
+            total += sign * entry * determinant_of(left)
+        sign = -sign
+    return total
+
+
+def corner_minors(table):
+    """Determinants that the leading corners of a table bring, or None if one of the corners has none above 0.
+
+    Entry i of row i is the determinant of the leading corner of i + 1 rows. An entry before it, at j, is that of the
+    leading corner of j + 1 rows with row i in the place of the last one. What stands behind is of no use.
+    """
+    rows = [list(row) for row in table]
+    before = 1
+    for corner in range(len(rows)):
+        pivot = rows[corner][corner]
+        if pivot <= 0:
+            return None
+        for low in range(corner + 1, len(rows)):
+            for at in range(corner + 1, len(rows)):
+                # This division leaves no rest: the entries are determinants again.
+                rows[low][at] = (rows[low][at] * pivot - rows[low][corner] * rows[corner][at]) // before
+        before = pivot
+    return rows
