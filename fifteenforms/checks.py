@@ -11,15 +11,25 @@ def is_row(value, many):
     return all([type(entry) is int for entry in value])
 
 
+def is_within(value, least, most):
+    """Whether it is an integer within these bounds."""
+    return type(value) is int and least <= value <= most
+
+
 def is_number(value):
     """Whether it is a number up to the greatest that the package takes."""
-    return type(value) is int and 1 <= value <= MOST_NUMBER
+    return is_within(value, 1, MOST_NUMBER)
+
+
+def check_within(number, least, most):
+    """Raises InvalidNumber unless it is an integer within these bounds."""
+    if not is_within(number, least, most):
+        raise InvalidNumber(number)
 
 
 def check_number(number):
     """Raises InvalidNumber unless it is a number up to the greatest."""
-    if not is_number(number):
-        raise InvalidNumber(number)
+    check_within(number, 1, MOST_NUMBER)
 
 
 def check_numbers(numbers):

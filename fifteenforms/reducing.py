@@ -3,7 +3,7 @@
 This is the reduction of Lenstra, Lenstra and Lovasz, with integers alone.
 """
 
-from fifteenforms.tables import corner_minors
+from fifteenforms.tables import corner_minors, unit_rows
 
 
 def short_basis(table):
@@ -13,7 +13,7 @@ def short_basis(table):
     of the point tell. So each point of the first table comes from just one of the low table.
     """
     low = [list(row) for row in table]
-    rows = [[1 if at == row else 0 for at in range(len(table))] for row in range(len(table))]
+    rows = unit_rows(len(table))
     place = 1
     while place < len(low):
         for before in reversed(range(place)):

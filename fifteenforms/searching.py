@@ -8,7 +8,7 @@ moves decide what can still come: so choices that leave the same are gone on wit
 
 from math import isqrt
 
-from fifteenforms.tables import determinant_of
+from fifteenforms.tables import determinant_of, determinants_with
 
 
 class Step:
@@ -23,7 +23,7 @@ class Step:
         self.place = place
         self.below = determinant_of(corner)
         self.here = determinant_of([list(row[:place + 1]) for row in table[:place + 1]])
-        self.moves = moves_of(corner, list(table[place][:place]))
+        self.moves = determinants_with(corner, list(table[place][:place]))
 
     def choices(self, centre, spent, most):
         """All places with values up to `most`: tuples of the place, and the next centre and what is spent then.
@@ -38,20 +38,22 @@ class Step:
             for far in range(first, reach + 1, self.here)
         ]
 
+    def last_choices(self, centre, spent, goal):
+        """The same for the first place, which is the last one that is chosen, with this value alone."""
+        near = centre[self.place]
+        room = goal * self.here - spent
+        reach = isqrt(room)
+        if reach * reach != room:
+            return []
+        fars = (-reach, reach) if reach > 0 else (0,)
+        return [((far - near) // self.here, (), goal) for far in fars if (far - near) % self.here == 0]
+
     def moved(self, centre, far):
         """The centre of the places before this one, if this one is so far from its own, over `here`."""
         return tuple([
             (self.below * part + far * move) // self.here
             for part, move in zip(centre, self.moves)
         ])
-
-
-def moves_of(corner, row):
-    """How far one whole of a place with this row moves the centre of the corner: by Cramer's rule, not yet divided."""
-    return [
-        determinant_of(corner[:at] + [row] + corner[at + 1:])
-        for at in range(len(corner))
-    ]
 
 
 def steps_of(table):
@@ -96,7 +98,7 @@ class Search:
     def heads(self, place, centre, spent):
         """All tuples of the places up to this one that bring the value, or only one."""
         if place < 0:
-            return [()] if spent == self.goal else []
+            return [()]
         here = self.steps[place].here
         rest = tuple([part % here for part in centre])
         key = (rest, spent)
@@ -107,8 +109,13 @@ class Search:
 
     def worked_out(self, place, centre, spent):
         """The same, gone through choice by choice."""
+        step = self.steps[place]
+        if place > 0:
+            choices = step.choices(centre, spent, self.goal)
+        else:
+            choices = step.last_choices(centre, spent, self.goal)
         found = []
-        for chosen, moved, more in self.steps[place].choices(centre, spent, self.goal):
+        for chosen, moved, more in choices:
             for head in self.heads(place - 1, moved, more):
                 found.append((*head, chosen))
             if self.one_only and len(found) > 0:

@@ -23,6 +23,37 @@ def determinant_of(rows):
     return total
 
 
+def determinants_with(rows, row):
+    """The determinants of the rows with this row in the place of each one of them, the first one first.
+
+    Divided by the determinant of the rows, they are how often the rows are to be taken so that their sum is this row.
+    """
+    return [
+        determinant_of(rows[:at] + [row] + rows[at + 1:])
+        for at in range(len(rows))
+    ]
+
+
+def inverse_of(rows):
+    """The inverse of rows with the determinant 1 or -1."""
+    sign = determinant_of(rows)
+    return [[sign * part for part in determinants_with(rows, unit)] for unit in unit_rows(len(rows))]
+
+
+def unit_rows(many):
+    """So many rows, with 1 in row i at i and 0 elsewhere."""
+    return [[1 if at == row else 0 for at in range(many)] for row in range(many)]
+
+
+def sums_of(points, rows):
+    """For each point the sum of the rows, taken as often as its places tell."""
+    columns = list(zip(*rows))
+    return [
+        tuple([sum([often * entry for often, entry in zip(point, column)]) for column in columns])
+        for point in points
+    ]
+
+
 def corner_minors(table):
     """Determinants that the leading corners of a table bring, or None if one of the corners has none above 0.
 

@@ -4,6 +4,7 @@ from fifteenforms.checks import check_number
 from fifteenforms.forms import check_form
 from fifteenforms.reducing import short_basis
 from fifteenforms.searching import Search, histogram
+from fifteenforms.tables import sums_of
 
 
 def gives(form, number):
@@ -62,8 +63,4 @@ def first_unlike(form, other, number):
 def points_found(form, number, one_only):
     """A list of all writings of the number, or of one of them if one is enough."""
     low, rows = short_basis(form.table)
-    columns = list(zip(*rows))
-    return [
-        tuple([sum([often * entry for often, entry in zip(point, column)]) for column in columns])
-        for point in Search(low, number, one_only).points()
-    ]
+    return sums_of(Search(low, number, one_only).points(), rows)

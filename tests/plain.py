@@ -1,6 +1,8 @@
 """What the tests compare with: plain searches and sums of their own, from the document's words alone."""
 
+from functools import cache
 from itertools import permutations, product
+from math import isqrt, prod
 
 
 class Always:
@@ -45,8 +47,8 @@ def without(table, place):
     return [[table[i][j] for j in kept] for i in kept]
 
 
-def box(table, number):
-    """All points that the bound of the document allows for numbers up to this one, ascending."""
+def box_ranges(table, number):
+    """The ranges of places that the bound of the document allows for numbers up to this one."""
     whole = leibniz(table)
     ranges = []
     for place in range(len(table)):
@@ -55,7 +57,88 @@ def box(table, number):
         while (reach + 1) ** 2 * whole <= room:
             reach += 1
         ranges.append(range(-reach, reach + 1))
-    return product(*ranges)
+    return ranges
+
+
+def box(table, number):
+    """All points that the bound of the document allows for numbers up to this one, ascending."""
+    return product(*box_ranges(table, number))
+
+
+def box_size(table, number):
+    """How many points the box has."""
+    return prod(len(places) for places in box_ranges(table, number))
+
+
+def values_over(table, ranges):
+    """The set of the values at all points with places in these ranges."""
+    found = set()
+
+    def gone_on(place, value, products):
+        double, entry = 2 * products[place], table[place][place]
+        if place == len(table) - 1:
+            found.update([value + at * (double + at * entry) for at in ranges[place]])
+            return
+        for at in ranges[place]:
+            moved = [before + at * more for before, more in zip(products, table[place])]
+            gone_on(place + 1, value + at * (double + at * entry), moved)
+
+    gone_on(0, 0, [0] * len(table))
+    return found
+
+
+def missed_in_box(table, number):
+    """All numbers up to this one that are no value at a point of the box, ascending."""
+    found = values_over(table, box_ranges(table, number))
+    return tuple(at for at in range(1, number + 1) if at not in found)
+
+
+@cache
+def missed_by_squares(factors, number):
+    """All numbers up to this one that are no sum of squares with these factors, ascending."""
+    found = {0}
+    for factor in factors:
+        squares = [factor * at * at for at in range(isqrt(number // factor) + 1)]
+        found = {value + square for value in found for square in squares if value + square <= number}
+    return tuple(at for at in range(1, number + 1) if at not in found)
+
+
+def all_turnings(table, other):
+    """All turnings of a table into another one, as tuples of rows, found among the points of the boxes."""
+    points = points_by_value(table, max(other[at][at] for at in range(len(other))))
+    found = [()]
+    for place, row in enumerate(other):
+        found = [
+            (*columns, point)
+            for columns in found
+            for point in points[row[place]]
+            if all(product_at(table, column, point) == entry for column, entry in zip(columns, row))
+        ]
+    turnings = [tuple(zip(*columns)) for columns in found]
+    return [rows for rows in turnings if leibniz(rows) in (1, -1)]
+
+
+def product_at(table, one, two):
+    """The sum that the document tells for two points."""
+    places = range(len(table))
+    return sum(table[i][j] * one[i] * two[j] for i in places for j in places)
+
+
+def turned_by(table, rows):
+    """The table into which the rows turn this one."""
+    columns = list(zip(*rows))
+    return tuple(tuple(product_at(table, one, two) for two in columns) for one in columns)
+
+
+def drawn_turning(chance, places, steps):
+    """A turning: the places in another order, with drawn signs, some taken off others so many times."""
+    order = chance.sample(range(places), places)
+    rows = [[chance.choice((-1, 1)) if at == order[row] else 0 for at in range(places)] for row in range(places)]
+    for _ in range(steps if places > 1 else 0):
+        one, two = chance.sample(range(places), 2)
+        times = chance.choice((-1, 1))
+        rows[one] = [entry + times * other for entry, other in zip(rows[one], rows[two])]
+    return tuple(tuple(row) for row in rows)
 
 
 def points_by_value(table, number):

@@ -68,6 +68,18 @@ class TestCode(unittest.TestCase):
                 found.update(target.id for target in node.targets)
         return found
 
+    def test_imports_are_used_and_their_names_mean_nothing_else(self):
+        for path in files():
+            tree = tree_of(path)
+            imported = {alias.name for node in tree.body if isinstance(node, ast.ImportFrom) for alias in node.names}
+            classes = {node.name for node in tree.body if isinstance(node, ast.ClassDef)}
+            names = [node for node in ast.walk(tree) if isinstance(node, ast.Name)]
+            with self.subTest(path=path.name):
+                self.assertLessEqual(imported, {node.id for node in names if isinstance(node.ctx, ast.Load)})
+                assigned = {node.id for node in names if isinstance(node.ctx, ast.Store)}
+                assigned.update(node.arg for node in ast.walk(tree) if isinstance(node, ast.arg))
+                self.assertEqual(assigned & (imported | classes | set(dir(builtins))), set())
+
     def test_few_builtins_and_no_floats(self):
         for path in files():
             for node in ast.walk(tree_of(path)):

@@ -2,12 +2,19 @@
 
 import unittest
 
+from fifteenforms.alike import alike, count_turnings, turning
 from fifteenforms.errors import NotSure
+from fifteenforms.fifteen import all_but_fifteen, first_missed, gives_all, gives_odd, gives_primes
+from fifteenforms.fifteen import least_missed, least_odd_missed, least_prime_missed, mends, missed
 from fifteenforms.forms import Form
+from fifteenforms.growing import grown, tree
+from fifteenforms.rests import bar, barred_rests, is_barred, rests
 from fifteenforms.writing import count_writings, counts, first_unlike, gives, least_value, writing, writings
 
 four, miss, six = Form.squares((1, 1, 1, 1)), Form.squares((1, 2, 5, 5)), Form(((2, 1), (1, 2)))
 pair = Form.squares((1, 1))
+three, mixed = Form.squares((1, 1, 1)), Form.squares((1, 1, 2))
+far = Form(((5, 7), (7, 10)))
 
 
 class TestForms(unittest.TestCase):
@@ -69,4 +76,74 @@ class TestWriting(unittest.TestCase):
                 first_unlike(pair, Form(((1, 1), (1, 2))), 50), first_unlike(four, miss, 9), counts(pair, 5),
             ],
             [2, 1, None, 1, (1, 4, 4, 0, 4, 8)],
+        )
+
+
+class TestFifteen(unittest.TestCase):
+    def test_first(self):
+        self.assertEqual(
+            [
+                gives_all(four), gives_all(miss), all_but_fifteen(miss), least_missed(three), least_missed(mixed),
+                gives_odd(mixed), gives_primes(mixed), gives_odd(three),
+            ],
+            [True, False, True, 7, 14, True, True, False],
+        )
+
+    def test_second(self):
+        self.assertEqual(
+            [
+                least_missed(four), least_odd_missed(pair), least_prime_missed(pair), least_prime_missed(three),
+                missed(three, 31), missed(six, 7), missed(pair, 8),
+            ],
+            [None, 3, 3, 7, (7, 15, 23, 28, 31), (1, 3, 4, 5, 7), (3, 6, 7)],
+        )
+
+    def test_third(self):
+        self.assertEqual(
+            [
+                first_missed(pair, (5, 7, 3)), first_missed(four, (999,)), mends(three, 5), (3, 3, 6) in mends(miss, 6),
+                mends(Form.squares((1, 1, 1, 8)), 2)[-1],
+            ],
+            [7, None, (), True, (3, 3, 2)],
+        )
+
+
+class TestRests(unittest.TestCase):
+    def test_first(self):
+        self.assertEqual(
+            [
+                rests(pair, 4), rests(six, 6), barred_rests(three, 8), bar(three, 7), bar(three, 15), bar(pair, 6),
+                bar(miss, 15), is_barred(six, 4, 9),
+            ],
+            [(0, 1, 2), (0, 2), (7,), 8, 8, 8, None, True],
+        )
+
+    def test_those_of_the_definitions(self):
+        self.assertEqual(rests(three, 8), (0, 1, 2, 3, 4, 5, 6))
+        self.assertEqual([number for number in range(1, 32) if is_barred(three, 8, number)], [7, 15, 23, 31])
+        self.assertEqual(missed(miss, 1000), (15,))
+
+
+class TestAlike(unittest.TestCase):
+    def test_first(self):
+        self.assertEqual(
+            [
+                alike(pair, Form(((1, 1), (1, 2)))), alike(pair, Form.squares((1, 2))), turning(six, pair),
+                count_turnings(pair), count_turnings(six), count_turnings(Form.squares((1, 2))), count_turnings(three),
+            ],
+            [True, False, None, 8, 12, 4, 48],
+        )
+
+    def test_second(self):
+        self.assertIs(pair.turned(turning(pair, far)) == far, True)
+
+
+class TestGrowing(unittest.TestCase):
+    def test_first(self):
+        self.assertEqual(
+            [
+                len(grown(Form.squares((1,)))), len(grown(pair)), len(grown(Form.squares((1, 2)))),
+                [len(tree(1)), len(tree(2)), len(tree(3))], grown(four),
+            ],
+            [2, 3, 8, [1, 2, 9], None],
         )

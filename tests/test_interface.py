@@ -3,7 +3,7 @@
 import inspect
 import unittest
 
-from fifteenforms import errors, forms, limits, writing
+from fifteenforms import alike, errors, fifteen, forms, growing, limits, rests, writing
 from fifteenforms.forms import Form
 
 FUNCTIONS = {
@@ -15,6 +15,33 @@ FUNCTIONS = {
         "least_value": ("form",),
         "counts": ("form", "number"),
         "first_unlike": ("form", "other", "number"),
+    },
+    fifteen: {
+        "gives_all": ("form",),
+        "gives_odd": ("form",),
+        "gives_primes": ("form",),
+        "least_missed": ("form",),
+        "least_odd_missed": ("form",),
+        "least_prime_missed": ("form",),
+        "missed": ("form", "number"),
+        "all_but_fifteen": ("form",),
+        "first_missed": ("form", "numbers"),
+        "mends": ("form", "most"),
+    },
+    rests: {
+        "rests": ("form", "modulus"),
+        "is_barred": ("form", "modulus", "number"),
+        "bar": ("form", "number"),
+        "barred_rests": ("form", "modulus"),
+    },
+    alike: {
+        "alike": ("form", "other"),
+        "turning": ("form", "other"),
+        "count_turnings": ("form",),
+    },
+    growing: {
+        "grown": ("form",),
+        "tree": ("places",),
     },
 }
 
