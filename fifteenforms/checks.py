@@ -1,6 +1,6 @@
 """Checks of arguments that several files need. They ask for the very kinds of values: True is no integer here."""
 
-from fifteenforms.errors import InvalidNumber, InvalidNumbers, InvalidPoint
+from fifteenforms.errors import InvalidIndex, InvalidNumber, InvalidNumbers, InvalidPoint
 from fifteenforms.limits import MOST_NUMBER
 
 
@@ -39,6 +39,12 @@ def check_numbers(numbers):
     for index, number in enumerate(numbers):
         if not is_number(number):
             raise InvalidNumbers(index)
+
+
+def check_index(index, many):
+    """Raises InvalidIndex unless it is an index of one of so many things."""
+    if not is_within(index, 0, many - 1):
+        raise InvalidIndex(index)
 
 
 def check_point(point, places):

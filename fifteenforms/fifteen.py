@@ -8,6 +8,7 @@ from fifteenforms.checks import check_numbers, check_within
 from fifteenforms.errors import NotSure
 from fifteenforms.forms import Form, check_form
 from fifteenforms.limits import ALL, ODD, PRIMES
+from fifteenforms.tables import with_entry
 from fifteenforms.writing import counts
 
 MOST_MEND = 15
@@ -88,10 +89,7 @@ def mends(form, most):
 
 def is_mended(form, row, place, entry):
     """Whether the form gives all numbers with this entry there and across the corner."""
-    rows = [list(entries) for entries in form.table]
-    rows[row][place] = entry
-    rows[place][row] = entry
     try:
-        return gives_all(Form(tuple([tuple(entries) for entries in rows])))
+        return gives_all(Form(with_entry(form.table, row, place, entry)))
     except NotSure:
         return False

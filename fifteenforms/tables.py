@@ -40,6 +40,14 @@ def inverse_of(rows):
     return [[sign * part for part in determinants_with(rows, unit)] for unit in unit_rows(len(rows))]
 
 
+def with_entry(table, row, place, entry):
+    """The table with this entry there and across the corner, as a tuple of tuples."""
+    rows = [list(entries) for entries in table]
+    rows[row][place] = entry
+    rows[place][row] = entry
+    return tuple([tuple(entries) for entries in rows])
+
+
 def unit_rows(many):
     """So many rows, with 1 in row i at i and 0 elsewhere."""
     return [[1 if at == row else 0 for at in range(many)] for row in range(many)]

@@ -18,6 +18,13 @@ class Refusing(unittest.TestCase):
             else:
                 self.assertIs(found, told)
 
+    def refused_bare(self, error, call, *passed, **named):
+        """The same for a class of errors without attributes."""
+        with self.subTest(call=call, passed=passed, named=named):
+            with self.assertRaises(error) as caught:
+                call(*passed, **named)
+            self.assertIs(type(caught.exception), error)
+
 
 def unit(places):
     """The rows of the turning that leaves all as it is."""

@@ -47,6 +47,13 @@ def without(table, place):
     return [[table[i][j] for j in kept] for i in kept]
 
 
+def changed(table, row, place, entry):
+    """The table with this entry there and across the corner."""
+    rows = [list(entries) for entries in table]
+    rows[row][place] = rows[place][row] = entry
+    return tuple(tuple(entries) for entries in rows)
+
+
 def box_ranges(table, number):
     """The ranges of places that the bound of the document allows for numbers up to this one."""
     whole = leibniz(table)
@@ -101,6 +108,17 @@ def missed_by_squares(factors, number):
         squares = [factor * at * at for at in range(isqrt(number // factor) + 1)]
         found = {value + square for value in found for square in squares if value + square <= number}
     return tuple(at for at in range(1, number + 1) if at not in found)
+
+
+def sums_of_triangles(lots, number):
+    """The set of all sums up to the number of one triangular number for each lot, taken as often as it tells."""
+    triangular = [0]
+    while triangular[-1] <= number:
+        triangular.append(triangular[-1] + len(triangular))
+    found = {0}
+    for lot in lots:
+        found = {total + lot * more for total in found for more in triangular if total + lot * more <= number}
+    return found
 
 
 def all_turnings(table, other):

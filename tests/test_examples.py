@@ -3,12 +3,16 @@
 import unittest
 
 from fifteenforms.alike import alike, count_turnings, turning
+from fifteenforms.desks import Desk
 from fifteenforms.errors import NotSure
 from fifteenforms.fifteen import all_but_fifteen, first_missed, gives_all, gives_odd, gives_primes
 from fifteenforms.fifteen import least_missed, least_odd_missed, least_prime_missed, mends, missed
 from fifteenforms.forms import Form
 from fifteenforms.growing import grown, tree
+from fifteenforms.guesses import confused, fitting
 from fifteenforms.rests import bar, barred_rests, is_barred, rests
+from fifteenforms.squares import diagonals, lone_squares
+from fifteenforms.triangles import least_triangle_missed, triangle_writing, triangles_all, triangles_give
 from fifteenforms.writing import count_writings, counts, first_unlike, gives, least_value, writing, writings
 
 four, miss, six = Form.squares((1, 1, 1, 1)), Form.squares((1, 2, 5, 5)), Form(((2, 1), (1, 2)))
@@ -147,3 +151,47 @@ class TestGrowing(unittest.TestCase):
             ],
             [2, 3, 8, [1, 2, 9], None],
         )
+
+
+class TestTriangles(unittest.TestCase):
+    def test_first(self):
+        self.assertEqual(
+            [
+                triangles_all((1, 1, 1)), least_triangle_missed((1, 1, 3)), least_triangle_missed((1, 2)),
+                triangle_writing((1, 2), 9), triangles_give((1, 2), 4), least_triangle_missed((2, 3)),
+            ],
+            [True, 8, 4, (2, 2), False, 1],
+        )
+
+
+class TestSquares(unittest.TestCase):
+    def test_first(self):
+        self.assertEqual(
+            [diagonals(3, 15), diagonals(4, 1), len(diagonals(4, 15)), lone_squares(4, 6), diagonals(4, 14)[-1]],
+            [(), ((1, 1, 1, 1),), 54, ((1, 2, 5, 5),), (1, 2, 5, 10)],
+        )
+
+
+class TestGuesses(unittest.TestCase):
+    def test_first(self):
+        self.assertEqual(
+            [
+                fitting((pair, three, six, mixed), (2, 14), ()), fitting((pair, three, mixed), (5,), (7,)),
+                fitting((), (), ()), confused((pair, three, pair, Form(((5, 7), (7, 10)))), 30),
+            ],
+            [(1, 2), (0, 1), (), ((0, 2), (0, 3), (2, 3))],
+        )
+
+
+class TestDesks(unittest.TestCase):
+    def test_first(self):
+        desk = Desk(Form.squares((1, 2)))
+        self.assertEqual(
+            [
+                desk.grow((1, 1)), desk.form.table, desk.put(2, 0, 0), least_missed(desk.form), desk.changes,
+                desk.past[0] == Form.squares((1, 2)),
+            ],
+            [None, ((1, 0, 1), (0, 2, 1), (1, 1, 5)), None, 7, 2, True],
+        )
+        with self.assertRaises(NotSure):
+            desk.put(0, 1, 2)

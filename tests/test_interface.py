@@ -3,7 +3,9 @@
 import inspect
 import unittest
 
-from fifteenforms import alike, errors, fifteen, forms, growing, limits, rests, writing
+from fifteenforms import alike, desks, errors, fifteen, forms, growing, guesses, limits, rests, squares, triangles
+from fifteenforms import writing
+from fifteenforms.desks import Desk
 from fifteenforms.forms import Form
 
 FUNCTIONS = {
@@ -43,19 +45,56 @@ FUNCTIONS = {
         "grown": ("form",),
         "tree": ("places",),
     },
+    triangles: {
+        "triangles_give": ("lots", "number"),
+        "triangles_all": ("lots",),
+        "least_triangle_missed": ("lots",),
+        "triangle_writing": ("lots", "number"),
+    },
+    squares: {
+        "diagonals": ("places", "most"),
+        "lone_squares": ("places", "most"),
+    },
+    guesses: {
+        "fitting": ("forms", "given", "lacked"),
+        "confused": ("forms", "number"),
+    },
 }
 
-METHODS = {
-    "__init__": ("self", "table"),
-    "product": ("self", "one", "two"),
-    "value": ("self", "point"),
-    "beside": ("self", "other"),
-    "turned": ("self", "rows"),
-    "part": ("self", "indexes"),
-    "__str__": ("self",),
-    "__repr__": ("self",),
-    "__eq__": ("self", "other"),
-}
+# Each class with its file, its methods with their arguments, its static methods, and its properties.
+CLASSES = (
+    (
+        Form, forms,
+        {
+            "__init__": ("table",),
+            "product": ("one", "two"),
+            "value": ("point",),
+            "beside": ("other",),
+            "turned": ("rows",),
+            "part": ("indexes",),
+            "__str__": (),
+            "__repr__": (),
+            "__eq__": ("other",),
+        },
+        {"read": ("text",), "squares": ("factors",)},
+        ("table", "places", "determinant", "diagonal"),
+    ),
+    (
+        Desk, desks,
+        {
+            "__init__": ("form",),
+            "put": ("row", "place", "entry"),
+            "grow": ("row",),
+            "turn": ("rows",),
+            "leave": ("place",),
+            "undo": (),
+            "trial": (),
+            "tried": ("action",),
+        },
+        {},
+        ("form", "changes", "past"),
+    ),
+)
 
 
 class TestInterface(unittest.TestCase):
@@ -69,15 +108,20 @@ class TestInterface(unittest.TestCase):
                     self.assertEqual(tuple(inspect.signature(function).parameters), parameters)
 
     def test_methods_stand_in_their_class(self):
-        self.assertEqual(Form.__module__, forms.__name__)
-        for name, parameters in METHODS.items():
-            with self.subTest(name=name):
-                self.assertEqual(tuple(inspect.signature(Form.__dict__[name]).parameters), parameters)
-        for name, parameters in (("read", ("text",)), ("squares", ("factors",))):
-            self.assertIsInstance(Form.__dict__[name], staticmethod)
-            self.assertEqual(tuple(inspect.signature(getattr(Form, name)).parameters), parameters)
-        for name in ("table", "places", "determinant", "diagonal"):
-            self.assertIsInstance(Form.__dict__[name], property)
+        for made, module, methods, static, properties in CLASSES:
+            self.assertEqual(made.__module__, module.__name__)
+            for name, parameters in methods.items():
+                with self.subTest(made=made, name=name):
+                    self.assertTrue(inspect.isfunction(made.__dict__[name]))
+                    found = tuple(inspect.signature(made.__dict__[name]).parameters)
+                    self.assertEqual(found, ("self", *parameters))
+            for name, parameters in static.items():
+                with self.subTest(made=made, name=name):
+                    self.assertIsInstance(made.__dict__[name], staticmethod)
+                    self.assertEqual(tuple(inspect.signature(getattr(made, name)).parameters), parameters)
+            for name in properties:
+                with self.subTest(made=made, name=name):
+                    self.assertIsInstance(made.__dict__[name], property)
 
     def test_errors_and_limits_stand_in_their_files(self):
         for value in vars(errors).values():

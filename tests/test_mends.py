@@ -8,17 +8,10 @@ from fifteenforms.fifteen import gives_all, mends
 from fifteenforms.forms import Form
 from fifteenforms.limits import ALL
 from tests.helping import Refusing
-from tests.plain import ODD_VALUES, box_ranges, drawn_turning, is_sure, turned_by, values_over
+from tests.plain import ODD_VALUES, box_ranges, changed, drawn_turning, is_sure, turned_by, values_over
 
 PAIR = Form.squares((1, 1))
 MISS = Form.squares((1, 2, 5, 5))
-
-
-def changed(table, row, place, entry):
-    """The table with this entry there and across the corner."""
-    rows = [list(entries) for entries in table]
-    rows[row][place] = rows[place][row] = entry
-    return tuple(tuple(entries) for entries in rows)
 
 
 def gives_the_nine(table):
