@@ -11,6 +11,13 @@ def is_row(value, many):
     return all([type(entry) is int for entry in value])
 
 
+def word_of(value):
+    """The word that a tuple begins with, None if it is no tuple or begins with no string."""
+    if type(value) is not tuple or len(value) == 0 or type(value[0]) is not str:
+        return None
+    return value[0]
+
+
 def is_within(value, least, most):
     """Whether it is an integer within these bounds."""
     return type(value) is int and least <= value <= most

@@ -3,8 +3,13 @@
 import unittest
 
 from fifteenforms.alike import alike, count_turnings, turning
+from fifteenforms.books import Book
+from fifteenforms.certificates import certify_all, certify_bar, certify_likeness, certify_number, certify_odd
+from fifteenforms.certificates import certify_primes
+from fifteenforms.checker import accepts
+from fifteenforms.console import Console
 from fifteenforms.desks import Desk
-from fifteenforms.errors import NotSure
+from fifteenforms.errors import Broken, InvalidLine, NotSure
 from fifteenforms.fifteen import all_but_fifteen, first_missed, gives_all, gives_odd, gives_primes
 from fifteenforms.fifteen import least_missed, least_odd_missed, least_prime_missed, mends, missed
 from fifteenforms.forms import Form
@@ -195,3 +200,59 @@ class TestDesks(unittest.TestCase):
         )
         with self.assertRaises(NotSure):
             desk.put(0, 1, 2)
+
+
+class TestBooks(unittest.TestCase):
+    def test_first(self):
+        book = Book()
+        self.assertEqual(
+            [
+                book.do_all(("put", "main", four), ("wish", ("all", "main")), ("wish", ("gives", "main", 7))),
+                book.names, book.changes,
+            ],
+            [3, ("main",), 3],
+        )
+        with self.assertRaises(Broken) as caught:
+            book.do_all(("put", "main", miss))
+        self.assertEqual(caught.exception.index, 0)
+
+
+class TestCertificates(unittest.TestCase):
+    def test_first(self):
+        claim, paper = certify_all(three)
+        self.assertEqual(
+            [
+                claim, len(paper), accepts(claim, paper), accepts(claim, paper[:5]), certify_number(miss, 15),
+                certify_bar(pair, 6), certify_bar(miss, 15),
+            ],
+            [
+                ("not all", "1 0 0\n0 1 0\n0 0 1", 7), 6, True, False,
+                (("misses", "1 0 0 0\n0 2 0 0\n0 0 5 0\n0 0 0 5", 15), ()), (("barred", "1 0\n0 1", 8, 6), ()), None,
+            ],
+        )
+
+    def test_second(self):
+        self.assertEqual(
+            [
+                certify_all(four)[0][0], len(certify_all(four)[1]), certify_likeness(pair, six)[0][0],
+                accepts(("alike", "1 0\n0 1", "1 1\n1 2"), ((1, 1), (0, 1))), len(certify_odd(mixed)[1]),
+                certify_primes(mixed)[0][0], certify_odd(three),
+            ],
+            ["all", 9, "unlike", True, 7, "primes", None],
+        )
+
+
+class TestConsole(unittest.TestCase):
+    def test_first(self):
+        console = Console(Form.squares((1, 1)))
+        self.assertEqual(
+            [
+                console.say("least"), console.say("grow 1 1"), console.say("show"), console.say("least"),
+                console.say("gives 7"), console.say("count 1"), console.say("put 0 0 -1"), console.say("missed 16"),
+                console.say("undo"), console.say("turnings"), console.say("leave 2"),
+            ],
+            ["3", "ok", "1 0 1, 0 1 1, 1 1 3", "7", "no", "6", "NotSure", "7 15", "ok", "8", "InvalidIndex"],
+        )
+        with self.assertRaises(InvalidLine) as caught:
+            console.say("gives 07")
+        self.assertEqual(caught.exception.given, "gives 07")

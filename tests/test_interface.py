@@ -3,8 +3,10 @@
 import inspect
 import unittest
 
-from fifteenforms import alike, desks, errors, fifteen, forms, growing, guesses, limits, rests, squares, triangles
-from fifteenforms import writing
+from fifteenforms import alike, books, certificates, checker, console, desks, errors, fifteen, forms, growing, guesses
+from fifteenforms import limits, rests, squares, triangles, writing
+from fifteenforms.books import Book
+from fifteenforms.console import Console
 from fifteenforms.desks import Desk
 from fifteenforms.forms import Form
 
@@ -59,6 +61,17 @@ FUNCTIONS = {
         "fitting": ("forms", "given", "lacked"),
         "confused": ("forms", "number"),
     },
+    checker: {
+        "accepts": ("claim", "certificate"),
+    },
+    certificates: {
+        "certify_number": ("form", "number"),
+        "certify_bar": ("form", "number"),
+        "certify_all": ("form",),
+        "certify_odd": ("form",),
+        "certify_primes": ("form",),
+        "certify_likeness": ("form", "other"),
+    },
 }
 
 # Each class with its file, its methods with their arguments, its static methods, and its properties.
@@ -94,6 +107,26 @@ CLASSES = (
         {},
         ("form", "changes", "past"),
     ),
+    (
+        Book, books,
+        {
+            "__init__": (),
+            "__setitem__": ("name", "form"),
+            "__getitem__": ("name",),
+            "__contains__": ("value",),
+            "__len__": (),
+            "drop": ("name",),
+            "wish": ("wish",),
+            "lift": ("index",),
+            "undo": (),
+            "do_all": ("deeds", "watch"),
+            "trial": (),
+            "tried": ("action",),
+        },
+        {},
+        ("names", "wishes", "changes"),
+    ),
+    (Console, console, {"__init__": ("form",), "say": ("line",)}, {}, ()),
 )
 
 
@@ -122,6 +155,18 @@ class TestInterface(unittest.TestCase):
             for name in properties:
                 with self.subTest(made=made, name=name):
                     self.assertIsInstance(made.__dict__[name], property)
+
+    def test_deeds_are_passed_by_position_and_watch_by_name(self):
+        parameters = inspect.signature(Book.do_all).parameters
+        self.assertIs(parameters["deeds"].kind, inspect.Parameter.VAR_POSITIONAL)
+        self.assertIs(parameters["watch"].kind, inspect.Parameter.KEYWORD_ONLY)
+        self.assertIsNone(parameters["watch"].default)
+
+    def test_nothing_else_has_a_default(self):
+        for module, functions in FUNCTIONS.items():
+            for name in functions:
+                for parameter in inspect.signature(getattr(module, name)).parameters.values():
+                    self.assertIs(parameter.default, inspect.Parameter.empty)
 
     def test_errors_and_limits_stand_in_their_files(self):
         for value in vars(errors).values():
