@@ -53,6 +53,7 @@ class Book:
         return len(self.history.now.forms)
 
     def __iter__(self):
+        # Without this, Python would ask for the names 0, 1 and so on.
         raise TypeError("a book tells its names by its property")
 
     @property

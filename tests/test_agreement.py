@@ -26,8 +26,10 @@ CALLS = (
     (writing, "count_writings", (FOUR, 6)), (writing, "least_value", (MISS,)), (writing, "counts", (FOUR, 20)),
     (writing, "first_unlike", (PAIR, FOUR, 9)),
     (fifteen, "gives_all", (MISS,)), (fifteen, "gives_odd", (MISS,)), (fifteen, "gives_primes", (MISS,)),
-    (fifteen, "least_missed", (PAIR,)), (fifteen, "least_odd_missed", (PAIR,)), (fifteen, "least_prime_missed", (PAIR,)),
-    (fifteen, "missed", (PAIR, 40)), (fifteen, "all_but_fifteen", (MISS,)), (fifteen, "first_missed", (PAIR, (5, 6, 7))),
+    (fifteen, "least_missed", (PAIR,)), (fifteen, "least_odd_missed", (PAIR,)),
+    (fifteen, "least_prime_missed", (PAIR,)),
+    (fifteen, "missed", (PAIR, 40)), (fifteen, "all_but_fifteen", (MISS,)),
+    (fifteen, "first_missed", (PAIR, (5, 6, 7))),
     (fifteen, "mends", (MISS, 3)),
     (rests, "rests", (PAIR, 8)), (rests, "is_barred", (PAIR, 8, 6)), (rests, "bar", (PAIR, 6)),
     (rests, "barred_rests", (PAIR, 8)),
@@ -40,7 +42,8 @@ CALLS = (
     (guesses, "fitting", ((PAIR, FOUR), (5,), (7,))), (guesses, "confused", ((PAIR, FOUR, PAIR), 9)),
     (checker, "accepts", (("gives", "1 0\n0 1", 5), (1, 2))),
     (certificates, "certify_number", (PAIR, 5)), (certificates, "certify_bar", (PAIR, 6)),
-    (certificates, "certify_all", (PAIR,)), (certificates, "certify_odd", (FOUR,)), (certificates, "certify_primes", (FOUR,)),
+    (certificates, "certify_all", (PAIR,)), (certificates, "certify_odd", (FOUR,)),
+    (certificates, "certify_primes", (FOUR,)),
     (certificates, "certify_likeness", (PAIR, MISS)),
 )
 
@@ -48,7 +51,8 @@ CALLS = (
 def some_forms(seed):
     """Forms of squares and drawn ones, low ones and far ones."""
     chance = random.Random(seed)
-    found = [Form.squares(factors) for factors in ((1,), (1, 2), (1, 1, 1), (1, 1, 2), (1, 2, 5, 5), (1, 2, 3, 4, 5), (1000,))]
+    rows = ((1,), (1000,), (1, 2), (1, 1, 1), (1, 1, 2), (1, 2, 5, 5), (1, 2, 3, 4, 5))
+    found = [Form.squares(factors) for factors in rows]
     for places in range(1, 6):
         found += [Form(table) for table in some_tables(chance, places, 9, 2, 3)]
     return found + [far_form(chance, form, 30) for form in found if form.places > 1]
@@ -202,7 +206,8 @@ class TestChanging(unittest.TestCase):
             for wish, told in (
                 (("all", "a"), fifteen.gives_all(form)), (("odd", "a"), fifteen.gives_odd(form)),
                 (("primes", "a"), fifteen.gives_primes(form)), (("gives", "a", 14), writing.gives(form, 14)),
-                (("misses", "a", 14), not writing.gives(form, 14)), (("alike", "a", "b"), likeness.alike(form, forms[0])),
+                (("misses", "a", 14), not writing.gives(form, 14)),
+                (("alike", "a", "b"), likeness.alike(form, forms[0])),
                 (("places", "a", 3), form.places <= 3), (("alike", "a", "a"), True),
             ):
                 if told:
@@ -229,7 +234,7 @@ class TestChanging(unittest.TestCase):
 class TestSums(unittest.TestCase):
     def test_squares_and_forms(self):
         told = squares.diagonals(4, 10)
-        for factors in ((1, 1, 1, 1), (1, 2, 5, 10), (1, 2, 5, 5), (1, 2, 4, 8), (1, 1, 4, 4), (2, 2, 2, 2), (1, 1, 3, 7)):
+        for factors in ((1, 1, 1, 1), (1, 2, 5, 10), (1, 2, 5, 5), (1, 2, 4, 8), (1, 1, 4, 4), (2, 2, 2, 2)):
             self.assertIs(factors in told, fifteen.gives_all(Form.squares(factors)))
             self.assertIs(factors in squares.lone_squares(4, 10), fifteen.all_but_fifteen(Form.squares(factors)))
 

@@ -14,7 +14,7 @@ THREE = Form.squares((1, 1, 1))
 FOUR = Form.squares((1, 1, 1, 1))
 MISS = Form.squares((1, 2, 5, 5))
 SIX = Form(((2, 1), (1, 2)))
-FORMS = (PAIR, THREE, FOUR, MISS, SIX, Form(((1, 1), (1, 2))), Form.squares((1, 1, 2)), Form(((5,),)), Form.squares((1,) * 5))
+FORMS = (PAIR, THREE, FOUR, MISS, SIX, Form(((1, 1), (1, 2))), Form(((5,),)), Form.squares((1,) * 5))
 
 NAMES = ("a", "z", "all", "main", "aaaaaaaa", "abcdefgh", "zzzzzzzz")
 NO_NAMES = (

@@ -1,4 +1,4 @@
-"""Consoles: each line with its answer, compared with a desk, with the functions of the package, and with the tests' own."""
+"""Consoles: each line with its answer, compared with a desk, with functions of the package, and with plain searches."""
 
 import random
 
@@ -112,7 +112,8 @@ class TestChanges(Consoles):
             ("put 0 0 1001", "InvalidNumber", None), ("put 0 0 -1001", "InvalidNumber", None),
             ("put 0 0 1000", "ok", "1000 0 0, 0 2 1, 0 1 5"), ("put 1 2 -3", "ok", "1000 0 0, 0 2 -3, 0 -3 5"),
             ("leave 3", "InvalidIndex", None), ("leave -1", "InvalidIndex", None), ("leave 1", "ok", "1000 0, 0 5"),
-            ("grow 1001 0", "InvalidPoint", None), ("grow 1000 0", "NotSure", None), ("grow 0 -1001", "InvalidPoint", None),
+            ("grow 1001 0", "InvalidPoint", None), ("grow 1000 0", "NotSure", None),
+            ("grow 0 -1001", "InvalidPoint", None),
             ("leave 0", "ok", "5"), ("leave 0", "TooGreat", None), ("leave 1", "InvalidIndex", None),
             ("grow 3", "NotSure", None), ("put 0 0 7", "ok", "7"), ("undo", "ok", "5"), ("undo", "ok", "1000 0, 0 5"),
         ):
@@ -137,8 +138,10 @@ class TestChanges(Consoles):
         console = Console(PAIR)
         great = "9" * 79
         for line, told in (
-            (f"put {great} 0 1", "InvalidIndex"), (f"put 0 {great} 1", "InvalidIndex"), (f"put 0 0 {great}", "InvalidNumber"),
-            (f"put 0 0 -{great}", "InvalidNumber"), (f"leave {great}", "InvalidIndex"), (f"grow 0 -{great}", "InvalidPoint"),
+            (f"put {great} 0 1", "InvalidIndex"), (f"put 0 {great} 1", "InvalidIndex"),
+            (f"put 0 0 {great}", "InvalidNumber"),
+            (f"put 0 0 -{great}", "InvalidNumber"), (f"leave {great}", "InvalidIndex"),
+            (f"grow 0 -{great}", "InvalidPoint"),
         ):
             self.answers(console, line, told)
         self.answers(console, "undo", "NothingToUndo")
@@ -183,7 +186,8 @@ class TestLines(Consoles):
         console = Console(PAIR)
         console.say("put 0 0 3")
         for line in (
-            "", " ", "  ", "\n", "Show", "SHOW", "shows", "sho", "turn 1 0 0 1", "trial", "form", "none", "ok", "0", "7",
+            "", " ", "  ", "\n", "Show", "SHOW", "shows", "sho", "turn 1 0 0 1", "trial", "form", "none", "ok",
+            "0", "7",
             "gives", "count", "missed", "put", "grow", "leave", "say", "help", "undo undo", "show show", "least least",
             "5 gives", "gives gives", "gives N", "put R P E", "leave P", "grow E1 E2", "show 0", "least 5", "undo 1",
             "turnings 0", "show, undo", "undo;", "undo.", "gives five", "past", "changes",
@@ -198,7 +202,8 @@ class TestLines(Consoles):
             "put 0 0 1", "grow 0 0", "leave 0", "undo", "gives 5", "count 5", "least", "missed 5", "turnings", "show",
         ):
             for wrong in (
-                " " + line, line + " ", line + "  ", line + "\n", "\n" + line, line + "\t", line + "\n" + line, line.upper(),
+                " " + line, line + " ", line + "  ", line + "\n", "\n" + line, line + "\t", line + "\n" + line,
+                line.upper(),
                 line.title(), line + ",", line + " x", line + " +1", line + " 1.0", line + " -0", line + " 00",
             ):
                 self.no_line(console, wrong)
@@ -212,7 +217,8 @@ class TestLines(Consoles):
     def test_integers(self):
         console = Console(PAIR)
         for wrong in (
-            "00", "01", "007", "+1", "+0", "-0", "-00", "-01", "--1", "- 1", "1-", "1.", "1.0", ".5", "1e2", "0x1", "0b1", "1_0",
+            "00", "01", "007", "+1", "+0", "-0", "-00", "-01", "--1", "- 1", "1-", "1.", "1.0", ".5", "1e2",
+            "0x1", "0b1", "1_0",
             "1,0", "one", "", "x", "True", "None", "1\n", "\n1", "(1)", "'1'", "~", "-", "+", "1 ", "0 0 0 0 0 0",
         ):
             for line in (
@@ -233,7 +239,9 @@ class TestLines(Consoles):
 
     def test_another_number_of_integers(self):
         console = Console(PAIR)
-        for line in ("put 0 0", "put 0", "put", "put 0 0 1 1", "leave", "leave 0 0", "undo 0", "grow", "grow 0", "grow 0 0 0"):
+        for line in (
+            "put 0 0", "put 0", "put", "put 0 0 1 1", "leave", "leave 0 0", "undo 0", "grow", "grow 0", "grow 0 0 0",
+        ):
             self.no_line(console, line)
         self.answers(console, "undo", "NothingToUndo")
 

@@ -87,7 +87,8 @@ class TestDoAll(Books):
     def test_what_fails(self):
         for deed, error, attribute, told in FAILING:
             for ahead, behind in (
-                ((), ()), ((), ALL_KINDS), ((("put", "z", PAIR),), ()), ((("put", "z", PAIR), ("drop", "z")), (deed, deed)),
+                ((), ()), ((), ALL_KINDS), ((("put", "z", PAIR),), ()),
+                ((("put", "z", PAIR), ("drop", "z")), (deed, deed)),
             ):
                 book = made_book()
                 self.unchanged(book, error, attribute, told, book.do_all, *ahead, deed, *behind)
@@ -99,7 +100,7 @@ class TestDoAll(Books):
     def test_the_first_one_that_fails(self):
         book = made_book()
         self.unchanged(book, InUse, "index", 0, book.do_all, ("lift", 3), ("drop", "a"), ("drop", "nobody"))
-        self.unchanged(book, UnknownName, "given", "nobody", book.do_all, ("lift", 3), ("drop", "nobody"), ("drop", "a"))
+        self.unchanged(book, UnknownName, "given", "no", book.do_all, ("lift", 3), ("drop", "no"), ("drop", "a"))
         self.unchanged(book, UnknownName, "given", "d", book.do_all, ("put", "d", PAIR), ("drop", "d"), ("drop", "d"))
 
     def test_a_deed_that_only_earlier_ones_allow(self):
@@ -111,8 +112,10 @@ class TestDoAll(Books):
 
     def test_no_deeds(self):
         wrong = (
-            *ODD_VALUES, 5, (), ("put",), ("put", "d"), ("put", "d", PAIR, PAIR), ("drop",), ("drop", "c", "c"), ("wish",),
-            ("wish", "all", "b"), ("lift",), ("lift", 0, 0), ["put", "d", PAIR], ["drop", "c"], "drop", ("undo",), ("undo", 1),
+            *ODD_VALUES, 5, (), ("put",), ("put", "d"), ("put", "d", PAIR, PAIR), ("drop",), ("drop", "c", "c"),
+            ("wish",),
+            ("wish", "all", "b"), ("lift",), ("lift", 0, 0), ["put", "d", PAIR], ["drop", "c"], "drop",
+            ("undo",), ("undo", 1),
             ("Put", "d", PAIR), ("", "d"), (None, "d"), (b"drop", "c"), (("drop",), "c"), ("drop ", "c"), ("c", "drop"),
             (True, 0), ("trial", 0), ("all", "b"), {"drop": "c"}, (["drop"], "c"),
         )

@@ -8,7 +8,8 @@ from fifteenforms.errors import InvalidForms, InvalidNumber, InvalidNumbers
 from fifteenforms.forms import Form
 from fifteenforms.guesses import confused, fitting
 from tests.helping import Refusing, far_form
-from tests.plain import ODD_VALUES, box, drawn_turning, missed_by_squares, missed_in_box, some_tables, turned_by, value_at
+from tests.plain import ODD_VALUES, box, drawn_turning, missed_by_squares, missed_in_box, some_tables, turned_by
+from tests.plain import value_at
 
 PAIR = Form.squares((1, 1))
 THREE = Form.squares((1, 1, 1))
@@ -77,10 +78,10 @@ class TestFitting(unittest.TestCase):
 class TestConfused(unittest.TestCase):
     def compare(self, tables, number):
         told = [plain_counts(table, number) for table in tables]
-        pairs = tuple(
-            (one, two) for one in range(len(tables)) for two in range(len(tables)) if one < two and told[one] == told[two]
+        pairs = sorted(
+            (one, two) for two in range(len(tables)) for one in range(two) if told[one] == told[two]
         )
-        self.assertEqual(confused(tuple(Form(table) for table in tables), number), pairs, (tables, number))
+        self.assertEqual(confused(tuple(Form(table) for table in tables), number), tuple(pairs), (tables, number))
         return pairs
 
     def test_drawn_forms(self):

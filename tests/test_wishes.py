@@ -58,7 +58,8 @@ class TestWishes(Books):
     def test_the_bounds_of_numbers(self):
         book = full_book()
         for wish in (
-            ("gives", "four", 1000), ("gives", "one", 1), ("misses", "three", 28), ("misses", "six", 1), ("places", "five", 5),
+            ("gives", "four", 1000), ("gives", "one", 1), ("misses", "three", 28), ("misses", "six", 1),
+            ("places", "five", 5),
             ("misses", "one", 1000), ("places", "one", 1), ("places", "one", 1000), ("places", "four", 4),
         ):
             book.wish(wish=wish)
@@ -87,12 +88,15 @@ class TestWishes(Books):
     def test_no_wishes(self):
         book = full_book()
         for value in (
-            *ODD_VALUES, 5, (), ("all",), ("odd",), ("primes",), ("gives", "four"), ("misses", "six"), ("alike", "four"),
+            *ODD_VALUES, 5, (), ("all",), ("odd",), ("primes",), ("gives", "four"), ("misses", "six"),
+            ("alike", "four"),
             ("places", "four"), ("all", "four", "four"), ("all", "four", 1), ("odd", "four", None),
-            ("primes", "four", "all"), ("gives", "four", 1, 1), ("misses", "six", 1, 1), ("alike", "four", "four", "four"),
+            ("primes", "four", "all"), ("gives", "four", 1, 1), ("misses", "six", 1, 1),
+            ("alike", "four", "four", "four"),
             ("places", "four", 4, 4), ["all", "four"], ["gives", "four", 1], "all", "all four", ("All", "four"),
             ("all ", "four"), ("", "four"), ("none", "four"), ("unlike", "four", "six"), ("barred", "six", 1),
-            ("not all", "three", 7), (None, "four"), (b"all", "four"), (("all",), "four"), (1, "four"), (True, "four", 1),
+            ("not all", "three", 7), (None, "four"), (b"all", "four"), (("all",), "four"), (1, "four"),
+            (True, "four", 1),
             ("four", "all"), ("four", "gives", 1), {"all": "four"}, (("all", "four"),), (["all"], "four"),
         ):
             self.unchanged(book, InvalidWish, "given", value, book.wish, value)
@@ -125,10 +129,12 @@ class TestWishes(Books):
 
     def test_each_word_breaks(self):
         for wish, name, table in (
-            (("all", "four"), "four", "miss"), (("odd", "mixed"), "mixed", "three"), (("primes", "mixed"), "mixed", "three"),
+            (("all", "four"), "four", "miss"), (("odd", "mixed"), "mixed", "three"),
+            (("primes", "mixed"), "mixed", "three"),
             (("gives", "pair", 5), "pair", "two"), (("misses", "pair", 3), "pair", "two"),
             (("alike", "pair", "far"), "far", "six"), (("alike", "pair", "far"), "pair", "two"),
-            (("places", "four", 4), "four", "five"), (("primes", "miss"), "miss", "pair"), (("all", "five"), "five", "one"),
+            (("places", "four", 4), "four", "five"), (("primes", "miss"), "miss", "pair"),
+            (("all", "five"), "five", "one"),
         ):
             book = full_book()
             book.wish(("places", "six", 2))
